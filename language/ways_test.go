@@ -11,6 +11,7 @@ var ways = map[string][]string{
 	"digest":    {"constant table", "array", "variadic"},
 	"codec":     {"errors.As", "generic function"},
 	"recursion": {"three indexes", "closure that calls itself"},
+	"verify":    {"loop left by a label", "call of copy"},
 }
 
 func TestWays(t *testing.T) {
@@ -66,6 +67,14 @@ func wayOf(n ast.Node) string {
 	case *ast.AssignStmt:
 		if callsItself(x) {
 			return "closure that calls itself"
+		}
+	case *ast.BranchStmt:
+		if x.Tok == token.BREAK && x.Label != nil {
+			return "loop left by a label"
+		}
+	case *ast.CallExpr:
+		if f, ok := x.Fun.(*ast.Ident); ok {
+			return "call of " + f.Name
 		}
 	}
 	return ""
