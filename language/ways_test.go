@@ -3,6 +3,7 @@ package language
 import (
 	"go/ast"
 	"go/token"
+	"maps"
 	"testing"
 )
 
@@ -12,6 +13,7 @@ var ways = map[string][]string{
 	"codec":     {"errors.As", "generic function"},
 	"recursion": {"three indexes", "closure that calls itself"},
 	"verify":    {"loop left by a label", "call of copy"},
+	"frontier":  {"embedded list", "promoted method"},
 }
 
 func TestWays(t *testing.T) {
@@ -29,6 +31,12 @@ func TestWays(t *testing.T) {
 				found[s.layer]["constant table"]++
 			}
 		}
+	}
+	for layer, names := range embedded(t) {
+		found[layer]["embedded list"] += len(names)
+	}
+	for layer, n := range promoted(t) {
+		found[layer]["promoted method"] += n
 	}
 	for layer, words := range ways {
 		for _, w := range words {
@@ -96,4 +104,97 @@ func callsItself(a *ast.AssignStmt) bool {
 		return true
 	})
 	return calls
+}
+
+// typesOf are the types that a file declares, by their names.
+func typesOf(f *ast.File) map[string]ast.Expr {
+	types := map[string]ast.Expr{}
+	for _, d := range f.Decls {
+		if g, ok := d.(*ast.GenDecl); ok && g.Tok == token.TYPE {
+			for _, spec := range g.Specs {
+				x := spec.(*ast.TypeSpec)
+				types[x.Name.Name] = x.Type
+			}
+		}
+	}
+	return types
+}
+
+// embedded are, of each layer, its lists that a struct of it embeds, with the struct's name.
+func embedded(t *testing.T) map[string]map[string]string {
+	types := map[string]map[string]ast.Expr{}
+	for _, s := range sources(t) {
+		if types[s.layer] == nil {
+			types[s.layer] = map[string]ast.Expr{}
+		}
+		maps.Copy(types[s.layer], typesOf(s.file))
+	}
+	lists := map[string]map[string]string{}
+	for layer, declared := range types {
+		lists[layer] = map[string]string{}
+		for outer, e := range declared {
+			x, ok := e.(*ast.StructType)
+			if !ok {
+				continue
+			}
+			for _, f := range x.Fields.List {
+				name, ok := f.Type.(*ast.Ident)
+				if !ok || len(f.Names) != 0 {
+					continue
+				}
+				if list, ok := declared[name.Name].(*ast.ArrayType); ok && list.Len == nil {
+					lists[layer][name.Name] = outer
+				}
+			}
+		}
+	}
+	return lists
+}
+
+// promoted counts, of each layer, the methods of embedded lists that those of the struct around them name.
+func promoted(t *testing.T) map[string]int {
+	lists, files := embedded(t), sources(t)
+	methods := map[string]map[string]string{}
+	for _, s := range files {
+		if methods[s.layer] == nil {
+			methods[s.layer] = map[string]string{}
+		}
+		for _, d := range s.file.Decls {
+			if f, ok := d.(*ast.FuncDecl); ok && lists[s.layer][receiver(f)] != "" {
+				methods[s.layer][f.Name.Name] = lists[s.layer][receiver(f)]
+			}
+		}
+	}
+	count := map[string]int{}
+	for _, s := range files {
+		for _, d := range s.file.Decls {
+			f, ok := d.(*ast.FuncDecl)
+			if !ok || receiver(f) == "" {
+				continue
+			}
+			ast.Inspect(f, func(n ast.Node) bool {
+				if x, ok := n.(*ast.SelectorExpr); ok && methods[s.layer][x.Sel.Name] == receiver(f) {
+					count[s.layer]++
+				}
+				return true
+			})
+		}
+	}
+	return count
+}
+
+// receiver is the name of the type whose method a function is.
+func receiver(f *ast.FuncDecl) string {
+	if f.Recv == nil {
+		return ""
+	}
+	e := f.Recv.List[0].Type
+	if p, ok := e.(*ast.StarExpr); ok {
+		e = p.X
+	}
+	name, _ := e.(*ast.Ident)
+	if name == nil {
+		return ""
+	}
+	return name.Name
 }
