@@ -14,6 +14,7 @@ var ways = map[string][]string{
 	"recursion": {"three indexes", "closure that calls itself"},
 	"verify":    {"loop left by a label", "call of copy"},
 	"frontier":  {"embedded list", "promoted method"},
+	"extract":   {"call of panic", "call of recover"},
 }
 
 func TestWays(t *testing.T) {
