@@ -15,6 +15,7 @@ var ways = map[string][]string{
 	"verify":    {"loop left by a label", "call of copy"},
 	"frontier":  {"embedded list", "promoted method"},
 	"extract":   {"call of panic", "call of recover"},
+	"tile":      {"map of structs", "range over bits"},
 }
 
 func TestWays(t *testing.T) {
@@ -38,6 +39,9 @@ func TestWays(t *testing.T) {
 	}
 	for layer, n := range promoted(t) {
 		found[layer]["promoted method"] += n
+	}
+	for layer, n := range mapsOfStructs(t) {
+		found[layer]["map of structs"] += n
 	}
 	for layer, words := range ways {
 		for _, w := range words {
@@ -85,8 +89,26 @@ func wayOf(n ast.Node) string {
 		if f, ok := x.Fun.(*ast.Ident); ok {
 			return "call of " + f.Name
 		}
+	case *ast.RangeStmt:
+		if isBits(x.X) && x.Value == nil {
+			return "range over bits"
+		}
 	}
 	return ""
+}
+
+// isBits tells whether package bits is asked for a number.
+func isBits(e ast.Expr) bool {
+	c, ok := e.(*ast.CallExpr)
+	if !ok {
+		return false
+	}
+	f, ok := c.Fun.(*ast.SelectorExpr)
+	if !ok {
+		return false
+	}
+	p, ok := f.X.(*ast.Ident)
+	return ok && p.Name == "bits"
 }
 
 // callsItself tells whether a function literal is given a name by which it calls itself.
@@ -121,8 +143,8 @@ func typesOf(f *ast.File) map[string]ast.Expr {
 	return types
 }
 
-// embedded are, of each layer, its lists that a struct of it embeds, with the struct's name.
-func embedded(t *testing.T) map[string]map[string]string {
+// declaredIn are the types of each layer.
+func declaredIn(t *testing.T) map[string]map[string]ast.Expr {
 	types := map[string]map[string]ast.Expr{}
 	for _, s := range sources(t) {
 		if types[s.layer] == nil {
@@ -130,8 +152,31 @@ func embedded(t *testing.T) map[string]map[string]string {
 		}
 		maps.Copy(types[s.layer], typesOf(s.file))
 	}
+	return types
+}
+
+// mapsOfStructs counts, of each layer, the maps whose keys are structs that it declares.
+func mapsOfStructs(t *testing.T) map[string]int {
+	types, count := declaredIn(t), map[string]int{}
+	for _, s := range sources(t) {
+		ast.Inspect(s.file, func(n ast.Node) bool {
+			if m, ok := n.(*ast.MapType); ok {
+				if key, ok := m.Key.(*ast.Ident); ok {
+					if _, ok := types[s.layer][key.Name].(*ast.StructType); ok {
+						count[s.layer]++
+					}
+				}
+			}
+			return true
+		})
+	}
+	return count
+}
+
+// embedded are, of each layer, its lists that a struct of it embeds, with the struct's name.
+func embedded(t *testing.T) map[string]map[string]string {
 	lists := map[string]map[string]string{}
-	for layer, declared := range types {
+	for layer, declared := range declaredIn(t) {
 		lists[layer] = map[string]string{}
 		for outer, e := range declared {
 			x, ok := e.(*ast.StructType)
