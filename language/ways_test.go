@@ -16,6 +16,7 @@ var ways = map[string][]string{
 	"frontier":  {"embedded list", "promoted method"},
 	"extract":   {"call of panic", "call of recover"},
 	"tile":      {"map of structs", "range over bits"},
+	"shape":     {"range over an iterator of its own"},
 }
 
 func TestWays(t *testing.T) {
@@ -42,6 +43,9 @@ func TestWays(t *testing.T) {
 	}
 	for layer, n := range mapsOfStructs(t) {
 		found[layer]["map of structs"] += n
+	}
+	for layer, n := range rangesOverOwn(t) {
+		found[layer]["range over an iterator of its own"] += n
 	}
 	for layer, words := range ways {
 		for _, w := range words {
@@ -164,6 +168,44 @@ func mapsOfStructs(t *testing.T) map[string]int {
 				if key, ok := m.Key.(*ast.Ident); ok {
 					if _, ok := types[s.layer][key.Name].(*ast.StructType); ok {
 						count[s.layer]++
+					}
+				}
+			}
+			return true
+		})
+	}
+	return count
+}
+
+// iterators are, of each layer, its functions that answer an iterator.
+func iterators(t *testing.T) map[string]map[string]int {
+	names := map[string]map[string]int{}
+	for _, s := range sources(t) {
+		if names[s.layer] == nil {
+			names[s.layer] = map[string]int{}
+		}
+		for _, d := range s.file.Decls {
+			f, ok := d.(*ast.FuncDecl)
+			if !ok || f.Recv != nil || f.Type.Results == nil || len(f.Type.Results.List) != 1 {
+				continue
+			}
+			if x, ok := f.Type.Results.List[0].Type.(*ast.IndexExpr); ok && wayOf(x.X) == "iter.Seq" {
+				names[s.layer][f.Name.Name]++
+			}
+		}
+	}
+	return names
+}
+
+// rangesOverOwn counts, of each layer, the ranges over what its own iterators tell.
+func rangesOverOwn(t *testing.T) map[string]int {
+	names, count := iterators(t), map[string]int{}
+	for _, s := range sources(t) {
+		ast.Inspect(s.file, func(n ast.Node) bool {
+			if r, ok := n.(*ast.RangeStmt); ok {
+				if c, ok := r.X.(*ast.CallExpr); ok {
+					if f, ok := c.Fun.(*ast.Ident); ok {
+						count[s.layer] += names[s.layer][f.Name]
 					}
 				}
 			}
