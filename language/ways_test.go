@@ -17,6 +17,7 @@ var ways = map[string][]string{
 	"extract":   {"call of panic", "call of recover"},
 	"tile":      {"map of structs", "range over bits"},
 	"shape":     {"range over an iterator of its own"},
+	"device":    {"call of delete", "deferred function"},
 }
 
 func TestWays(t *testing.T) {
@@ -93,6 +94,8 @@ func wayOf(n ast.Node) string {
 		if f, ok := x.Fun.(*ast.Ident); ok {
 			return "call of " + f.Name
 		}
+	case *ast.DeferStmt:
+		return "deferred function"
 	case *ast.RangeStmt:
 		if isBits(x.X) && x.Value == nil {
 			return "range over bits"
