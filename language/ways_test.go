@@ -18,6 +18,7 @@ var ways = map[string][]string{
 	"tile":      {"map of structs", "range over bits"},
 	"shape":     {"range over an iterator of its own"},
 	"device":    {"call of delete", "deferred function"},
+	"store":     {"deferred function", "call of copy"},
 }
 
 func TestWays(t *testing.T) {
