@@ -4,6 +4,9 @@ import (
 	"go/ast"
 	"go/token"
 	"maps"
+	"slices"
+	"strconv"
+	"strings"
 	"testing"
 )
 
@@ -19,6 +22,7 @@ var ways = map[string][]string{
 	"shape":     {"range over an iterator of its own"},
 	"device":    {"call of delete", "deferred function"},
 	"store":     {"deferred function", "call of copy"},
+	"single":    {"method value"},
 }
 
 func TestWays(t *testing.T) {
@@ -48,6 +52,9 @@ func TestWays(t *testing.T) {
 	}
 	for layer, n := range rangesOverOwn(t) {
 		found[layer]["range over an iterator of its own"] += n
+	}
+	for layer, n := range methodValues(t) {
+		found[layer]["method value"] += n
 	}
 	for layer, words := range ways {
 		for _, w := range words {
@@ -217,6 +224,47 @@ func rangesOverOwn(t *testing.T) map[string]int {
 		})
 	}
 	return count
+}
+
+// methodNames are the exported methods of all layers.
+func methodNames(t *testing.T) map[string]int {
+	names := map[string]int{}
+	for _, s := range sources(t) {
+		for _, d := range s.file.Decls {
+			if f, ok := d.(*ast.FuncDecl); ok && f.Recv != nil && f.Name.IsExported() {
+				names[f.Name.Name]++
+			}
+		}
+	}
+	return names
+}
+
+// methodValues counts, of each layer, the methods of a thing that are named, but not called on the spot.
+func methodValues(t *testing.T) map[string]int {
+	names, count := methodNames(t), map[string]int{}
+	for _, s := range sources(t) {
+		called := map[ast.Expr]int{}
+		ast.Inspect(s.file, func(n ast.Node) bool {
+			switch x := n.(type) {
+			case *ast.CallExpr:
+				called[x.Fun]++
+			case *ast.SelectorExpr:
+				if called[x] == 0 && names[x.Sel.Name] > 0 && !isPackage(s.file, x.X) {
+					count[s.layer]++
+				}
+			}
+			return true
+		})
+	}
+	return count
+}
+
+// isPackage tells whether it is the name of what a file imports.
+func isPackage(f *ast.File, e ast.Expr) bool {
+	name, ok := e.(*ast.Ident)
+	return ok && slices.ContainsFunc(f.Imports, func(i *ast.ImportSpec) bool {
+		return strings.HasSuffix(i.Path.Value, "/"+name.Name+"\"") || i.Path.Value == strconv.Quote(name.Name)
+	})
 }
 
 // embedded are, of each layer, its lists that a struct of it embeds, with the struct's name.
