@@ -23,6 +23,7 @@ var ways = map[string][]string{
 	"device":    {"call of delete", "deferred function"},
 	"store":     {"deferred function", "call of copy"},
 	"single":    {"method value"},
+	"batch":     {"goto", "map"},
 }
 
 func TestWays(t *testing.T) {
@@ -95,9 +96,14 @@ func wayOf(n ast.Node) string {
 			return "closure that calls itself"
 		}
 	case *ast.BranchStmt:
-		if x.Tok == token.BREAK && x.Label != nil {
+		switch {
+		case x.Tok == token.BREAK && x.Label != nil:
 			return "loop left by a label"
+		case x.Tok == token.GOTO:
+			return "goto"
 		}
+	case *ast.MapType:
+		return "map"
 	case *ast.CallExpr:
 		if f, ok := x.Fun.(*ast.Ident); ok {
 			return "call of " + f.Name
