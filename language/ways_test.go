@@ -24,6 +24,7 @@ var ways = map[string][]string{
 	"store":     {"deferred function", "call of copy"},
 	"single":    {"method value"},
 	"batch":     {"goto", "map"},
+	"chain":     {"range over neighbours", "map of arrays"},
 }
 
 func TestWays(t *testing.T) {
@@ -103,6 +104,9 @@ func wayOf(n ast.Node) string {
 			return "goto"
 		}
 	case *ast.MapType:
+		if key, ok := x.Key.(*ast.ArrayType); ok && key.Len != nil {
+			return "map of arrays"
+		}
 		return "map"
 	case *ast.CallExpr:
 		if f, ok := x.Fun.(*ast.Ident); ok {
@@ -111,11 +115,24 @@ func wayOf(n ast.Node) string {
 	case *ast.DeferStmt:
 		return "deferred function"
 	case *ast.RangeStmt:
-		if isBits(x.X) && x.Value == nil {
+		switch {
+		case isBits(x.X) && x.Value == nil:
 			return "range over bits"
+		case isOneLess(x.X) && x.Value == nil:
+			return "range over neighbours"
 		}
 	}
 	return ""
+}
+
+// isOneLess tells whether it is the number of a list's pairs of neighbours: its length less 1.
+func isOneLess(e ast.Expr) bool {
+	b, ok := e.(*ast.BinaryExpr)
+	if !ok || b.Op != token.SUB {
+		return false
+	}
+	one, ok := b.Y.(*ast.BasicLit)
+	return ok && one.Value == "1" && wayOf(b.X) == "call of len"
 }
 
 // isBits tells whether package bits is asked for a number.
