@@ -25,6 +25,7 @@ var ways = map[string][]string{
 	"single":    {"method value"},
 	"batch":     {"goto", "map"},
 	"chain":     {"range over neighbours", "map of arrays"},
+	"span":      {"interface in a field", "call through an interface"},
 }
 
 func TestWays(t *testing.T) {
@@ -57,6 +58,12 @@ func TestWays(t *testing.T) {
 	}
 	for layer, n := range methodValues(t) {
 		found[layer]["method value"] += n
+	}
+	for layer, names := range held(t) {
+		found[layer]["interface in a field"] += len(names)
+	}
+	for layer, n := range calledThrough(t) {
+		found[layer]["call through an interface"] += n
 	}
 	for layer, words := range ways {
 		for _, w := range words {
@@ -288,6 +295,92 @@ func isPackage(f *ast.File, e ast.Expr) bool {
 	return ok && slices.ContainsFunc(f.Imports, func(i *ast.ImportSpec) bool {
 		return strings.HasSuffix(i.Path.Value, "/"+name.Name+"\"") || i.Path.Value == strconv.Quote(name.Name)
 	})
+}
+
+// held are, of each layer, the fields that hold an interface which it declares, with the interface's name.
+func held(t *testing.T) map[string]map[string]string {
+	fields := map[string]map[string]string{}
+	for layer, declared := range declaredIn(t) {
+		fields[layer] = map[string]string{}
+		for _, e := range declared {
+			x, ok := e.(*ast.StructType)
+			if !ok {
+				continue
+			}
+			for _, f := range x.Fields.List {
+				for _, name := range f.Names {
+					if kind, ok := f.Type.(*ast.Ident); ok && isInterface(declared[kind.Name]) {
+						fields[layer][name.Name] = kind.Name
+					}
+				}
+			}
+		}
+	}
+	return fields
+}
+
+func isInterface(e ast.Expr) bool {
+	_, ok := e.(*ast.InterfaceType)
+	return ok
+}
+
+// calledThrough counts, of each layer, the calls of an interface's method on a field that holds it, or on what a function answers as one.
+func calledThrough(t *testing.T) map[string]int {
+	types, fields, count := declaredIn(t), held(t), map[string]int{}
+	answers := answered(t)
+	for _, s := range sources(t) {
+		ast.Inspect(s.file, func(n ast.Node) bool {
+			c, ok := n.(*ast.CallExpr)
+			if !ok {
+				return true
+			}
+			method, ok := c.Fun.(*ast.SelectorExpr)
+			if !ok {
+				return true
+			}
+			kind := ""
+			switch x := method.X.(type) {
+			case *ast.SelectorExpr:
+				kind = fields[s.layer][x.Sel.Name]
+			case *ast.CallExpr:
+				kind = answers[s.layer][nameOf(x.Fun)]
+			}
+			if i, ok := types[s.layer][kind].(*ast.InterfaceType); ok && slices.ContainsFunc(i.Methods.List, func(f *ast.Field) bool {
+				return len(f.Names) == 1 && f.Names[0].Name == method.Sel.Name
+			}) {
+				count[s.layer]++
+			}
+			return true
+		})
+	}
+	return count
+}
+
+// answered are, of each layer, its functions that answer one thing, with the name of the thing's type.
+func answered(t *testing.T) map[string]map[string]string {
+	kinds := map[string]map[string]string{}
+	for _, s := range sources(t) {
+		if kinds[s.layer] == nil {
+			kinds[s.layer] = map[string]string{}
+		}
+		for _, d := range s.file.Decls {
+			if f, ok := d.(*ast.FuncDecl); ok && f.Type.Results != nil && len(f.Type.Results.List) == 1 {
+				kinds[s.layer][f.Name.Name] = nameOf(f.Type.Results.List[0].Type)
+			}
+		}
+	}
+	return kinds
+}
+
+// nameOf is the last name of what is named, if it is.
+func nameOf(e ast.Expr) string {
+	switch x := e.(type) {
+	case *ast.Ident:
+		return x.Name
+	case *ast.SelectorExpr:
+		return x.Sel.Name
+	}
+	return ""
 }
 
 // embedded are, of each layer, its lists that a struct of it embeds, with the struct's name.
