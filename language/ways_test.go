@@ -26,6 +26,7 @@ var ways = map[string][]string{
 	"batch":     {"goto", "map"},
 	"chain":     {"range over neighbours", "map of arrays"},
 	"span":      {"interface in a field", "call through an interface"},
+	"cache":     {"call of float32", "generic order in a field", "generic table in a field"},
 }
 
 func TestWays(t *testing.T) {
@@ -64,6 +65,11 @@ func TestWays(t *testing.T) {
 	}
 	for layer, n := range calledThrough(t) {
 		found[layer]["call through an interface"] += n
+	}
+	for layer, names := range genericFields(t) {
+		for name, n := range names {
+			found[layer]["generic "+name+" in a field"] += n
+		}
 	}
 	for layer, words := range ways {
 		for _, w := range words {
@@ -198,6 +204,54 @@ func declaredIn(t *testing.T) map[string]map[string]ast.Expr {
 		maps.Copy(types[s.layer], typesOf(s.file))
 	}
 	return types
+}
+
+// generics are, of each layer, the generic types that it declares.
+func generics(t *testing.T) map[string]map[string]int {
+	names := map[string]map[string]int{}
+	for _, s := range sources(t) {
+		if names[s.layer] == nil {
+			names[s.layer] = map[string]int{}
+		}
+		ast.Inspect(s.file, func(n ast.Node) bool {
+			if x, ok := n.(*ast.TypeSpec); ok && x.TypeParams != nil {
+				names[s.layer][x.Name.Name]++
+			}
+			return true
+		})
+	}
+	return names
+}
+
+// genericFields counts, of each layer, the fields that hold one of its generic types, by the type's name.
+func genericFields(t *testing.T) map[string]map[string]int {
+	names, count := generics(t), map[string]map[string]int{}
+	for layer, declared := range declaredIn(t) {
+		count[layer] = map[string]int{}
+		for _, e := range declared {
+			x, ok := e.(*ast.StructType)
+			if !ok {
+				continue
+			}
+			for _, f := range x.Fields.List {
+				if name := instanceOf(f.Type); names[layer][name] > 0 {
+					count[layer][name]++
+				}
+			}
+		}
+	}
+	return count
+}
+
+// instanceOf is the name of the generic type of which a type is made, if it is.
+func instanceOf(e ast.Expr) string {
+	switch x := e.(type) {
+	case *ast.IndexExpr:
+		return nameOf(x.X)
+	case *ast.IndexListExpr:
+		return nameOf(x.X)
+	}
+	return ""
 }
 
 // mapsOfStructs counts, of each layer, the maps whose keys are structs that it declares.
