@@ -27,6 +27,7 @@ var ways = map[string][]string{
 	"chain":     {"range over neighbours", "map of arrays"},
 	"span":      {"interface in a field", "call through an interface"},
 	"cache":     {"call of float32", "generic order in a field", "generic table in a field"},
+	"plan":      {"type switch on its own", "call of float32"},
 }
 
 func TestWays(t *testing.T) {
@@ -70,6 +71,9 @@ func TestWays(t *testing.T) {
 		for name, n := range names {
 			found[layer]["generic "+name+" in a field"] += n
 		}
+	}
+	for layer, n := range switchesOnOwn(t) {
+		found[layer]["type switch on its own"] += n
 	}
 	for layer, words := range ways {
 		for _, w := range words {
@@ -252,6 +256,34 @@ func instanceOf(e ast.Expr) string {
 		return nameOf(x.X)
 	}
 	return ""
+}
+
+// switchesOnOwn counts, of each layer, the type switches that tell apart types which it declares, and no others.
+func switchesOnOwn(t *testing.T) map[string]int {
+	types, count := declaredIn(t), map[string]int{}
+	for _, s := range sources(t) {
+		ast.Inspect(s.file, func(n ast.Node) bool {
+			x, ok := n.(*ast.TypeSwitchStmt)
+			if !ok {
+				return true
+			}
+			own, others := 0, 0
+			for _, c := range x.Body.List {
+				for _, e := range c.(*ast.CaseClause).List {
+					if _, ok := types[s.layer][nameOf(e)]; ok {
+						own++
+					} else {
+						others++
+					}
+				}
+			}
+			if own > 1 && others == 0 {
+				count[s.layer]++
+			}
+			return true
+		})
+	}
+	return count
 }
 
 // mapsOfStructs counts, of each layer, the maps whose keys are structs that it declares.
