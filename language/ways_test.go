@@ -28,6 +28,7 @@ var ways = map[string][]string{
 	"span":      {"interface in a field", "call through an interface"},
 	"cache":     {"call of float32", "generic order in a field", "generic table in a field"},
 	"plan":      {"type switch on its own", "call of float32"},
+	"message":   {"method expression in a table", "fallthrough"},
 }
 
 func TestWays(t *testing.T) {
@@ -75,6 +76,9 @@ func TestWays(t *testing.T) {
 	for layer, n := range switchesOnOwn(t) {
 		found[layer]["type switch on its own"] += n
 	}
+	for layer, n := range tabledMethods(t) {
+		found[layer]["method expression in a table"] += n
+	}
 	for layer, words := range ways {
 		for _, w := range words {
 			if found[layer][w] == 0 {
@@ -117,8 +121,8 @@ func wayOf(n ast.Node) string {
 		switch {
 		case x.Tok == token.BREAK && x.Label != nil:
 			return "loop left by a label"
-		case x.Tok == token.GOTO:
-			return "goto"
+		case x.Tok == token.GOTO || x.Tok == token.FALLTHROUGH:
+			return x.Tok.String()
 		}
 	case *ast.MapType:
 		if key, ok := x.Key.(*ast.ArrayType); ok && key.Len != nil {
@@ -375,6 +379,41 @@ func methodValues(t *testing.T) map[string]int {
 	return count
 }
 
+// tabledMethods counts, of each layer, the methods of its types that stand in a literal as functions.
+func tabledMethods(t *testing.T) map[string]int {
+	types, count := declaredIn(t), map[string]int{}
+	for _, s := range sources(t) {
+		ast.Inspect(s.file, func(n ast.Node) bool {
+			x, ok := n.(*ast.CompositeLit)
+			if !ok {
+				return true
+			}
+			for _, e := range x.Elts {
+				if m, ok := e.(*ast.SelectorExpr); ok && types[s.layer][ofType(m.X)] != nil {
+					count[s.layer]++
+				}
+			}
+			return true
+		})
+	}
+	return count
+}
+
+// ofType is the name of a type, or of what it points to, as a method expression has it ahead of the method.
+func ofType(e ast.Expr) string {
+	if p, ok := e.(*ast.ParenExpr); ok {
+		e = p.X
+	}
+	if p, ok := e.(*ast.StarExpr); ok {
+		e = p.X
+	}
+	name, _ := e.(*ast.Ident)
+	if name == nil {
+		return ""
+	}
+	return name.Name
+}
+
 // isPackage tells whether it is the name of what a file imports.
 func isPackage(f *ast.File, e ast.Expr) bool {
 	name, ok := e.(*ast.Ident)
@@ -530,13 +569,5 @@ func receiver(f *ast.FuncDecl) string {
 	if f.Recv == nil {
 		return ""
 	}
-	e := f.Recv.List[0].Type
-	if p, ok := e.(*ast.StarExpr); ok {
-		e = p.X
-	}
-	name, _ := e.(*ast.Ident)
-	if name == nil {
-		return ""
-	}
-	return name.Name
+	return ofType(f.Recv.List[0].Type)
 }
