@@ -29,6 +29,7 @@ var ways = map[string][]string{
 	"cache":     {"call of float32", "generic order in a field", "generic table in a field"},
 	"plan":      {"type switch on its own", "call of float32"},
 	"message":   {"method expression in a table", "fallthrough"},
+	"server":    {"table with functions in fields", "call of a function in a field", "deferred function", "call of recover"},
 }
 
 func TestWays(t *testing.T) {
@@ -78,6 +79,12 @@ func TestWays(t *testing.T) {
 	}
 	for layer, n := range tabledMethods(t) {
 		found[layer]["method expression in a table"] += n
+	}
+	for layer, n := range tabledFields(t) {
+		found[layer]["table with functions in fields"] += n
+	}
+	for layer, n := range calledFields(t) {
+		found[layer]["call of a function in a field"] += n
 	}
 	for layer, words := range ways {
 		for _, w := range words {
@@ -390,6 +397,62 @@ func tabledMethods(t *testing.T) map[string]int {
 			}
 			for _, e := range x.Elts {
 				if m, ok := e.(*ast.SelectorExpr); ok && types[s.layer][ofType(m.X)] != nil {
+					count[s.layer]++
+				}
+			}
+			return true
+		})
+	}
+	return count
+}
+
+// functionFields are, of each layer, the fields that hold a function, with the name of their struct.
+func functionFields(t *testing.T) map[string]map[string]string {
+	fields := map[string]map[string]string{}
+	for layer, declared := range declaredIn(t) {
+		fields[layer] = map[string]string{}
+		for outer, e := range declared {
+			x, ok := e.(*ast.StructType)
+			if !ok {
+				continue
+			}
+			for _, f := range x.Fields.List {
+				for _, name := range f.Names {
+					if _, ok := f.Type.(*ast.FuncType); ok {
+						fields[layer][name.Name] = outer
+					}
+				}
+			}
+		}
+	}
+	return fields
+}
+
+// tabledFields counts, of each layer, the lists that are written out of structs which hold functions.
+func tabledFields(t *testing.T) map[string]int {
+	fields, count := functionFields(t), map[string]int{}
+	for _, s := range sources(t) {
+		ast.Inspect(s.file, func(n ast.Node) bool {
+			x, ok := n.(*ast.CompositeLit)
+			if !ok {
+				return true
+			}
+			if list, ok := x.Type.(*ast.ArrayType); ok && slices.Contains(slices.Collect(maps.Values(fields[s.layer])), nameOf(list.Elt)) {
+				count[s.layer]++
+			}
+			return true
+		})
+	}
+	return count
+}
+
+// calledFields counts, of each layer, the calls of what a field holds.
+func calledFields(t *testing.T) map[string]int {
+	fields, count := functionFields(t), map[string]int{}
+	for _, s := range sources(t) {
+		ast.Inspect(s.file, func(n ast.Node) bool {
+			if c, ok := n.(*ast.CallExpr); ok {
+				if f, ok := c.Fun.(*ast.SelectorExpr); ok && fields[s.layer][f.Sel.Name] != "" && !isPackage(s.file, f.X) {
 					count[s.layer]++
 				}
 			}
