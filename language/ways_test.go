@@ -30,6 +30,7 @@ var ways = map[string][]string{
 	"plan":      {"type switch on its own", "call of float32"},
 	"message":   {"method expression in a table", "fallthrough"},
 	"server":    {"table with functions in fields", "call of a function in a field", "deferred function", "call of recover"},
+	"client":    {"type assertion on its own", "constant by iota"},
 }
 
 func TestWays(t *testing.T) {
@@ -43,8 +44,12 @@ func TestWays(t *testing.T) {
 			return true
 		})
 		for _, d := range s.file.Decls {
-			if g, ok := d.(*ast.GenDecl); ok && g.Tok == token.VAR {
+			g, ok := d.(*ast.GenDecl)
+			switch {
+			case ok && g.Tok == token.VAR:
 				found[s.layer]["constant table"]++
+			case ok && g.Tok == token.CONST && hasIota(g):
+				found[s.layer]["constant by iota"]++
 			}
 		}
 	}
@@ -76,6 +81,9 @@ func TestWays(t *testing.T) {
 	}
 	for layer, n := range switchesOnOwn(t) {
 		found[layer]["type switch on its own"] += n
+	}
+	for layer, n := range assertionsOnOwn(t) {
+		found[layer]["type assertion on its own"] += n
 	}
 	for layer, n := range tabledMethods(t) {
 		found[layer]["method expression in a table"] += n
@@ -295,6 +303,31 @@ func switchesOnOwn(t *testing.T) map[string]int {
 		})
 	}
 	return count
+}
+
+// assertionsOnOwn counts, of each layer, the assertions that something is of a type which it declares.
+func assertionsOnOwn(t *testing.T) map[string]int {
+	types, count := declaredIn(t), map[string]int{}
+	for _, s := range sources(t) {
+		ast.Inspect(s.file, func(n ast.Node) bool {
+			if x, ok := n.(*ast.TypeAssertExpr); ok && x.Type != nil && types[s.layer][nameOf(x.Type)] != nil {
+				count[s.layer]++
+			}
+			return true
+		})
+	}
+	return count
+}
+
+// hasIota tells whether constants are counted.
+func hasIota(g *ast.GenDecl) bool {
+	has := false
+	ast.Inspect(g, func(n ast.Node) bool {
+		name, ok := n.(*ast.Ident)
+		has = has || ok && name.Name == "iota"
+		return true
+	})
+	return has
 }
 
 // mapsOfStructs counts, of each layer, the maps whose keys are structs that it declares.
