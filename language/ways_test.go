@@ -12,25 +12,26 @@ import (
 
 // ways are those of the document's section 'Ways', of the layers that are built.
 var ways = map[string][]string{
-	"digest":    {"constant table", "array", "variadic"},
-	"codec":     {"errors.As", "generic function"},
-	"recursion": {"three indexes", "closure that calls itself"},
-	"verify":    {"loop left by a label", "call of copy"},
-	"frontier":  {"embedded list", "promoted method"},
-	"extract":   {"call of panic", "call of recover"},
-	"tile":      {"map of structs", "range over bits"},
-	"shape":     {"range over an iterator of its own"},
-	"device":    {"call of delete", "deferred function"},
-	"store":     {"deferred function", "call of copy"},
-	"single":    {"method value"},
-	"batch":     {"goto", "map"},
-	"chain":     {"range over neighbours", "map of arrays"},
-	"span":      {"interface in a field", "call through an interface"},
-	"cache":     {"call of float32", "generic order in a field", "generic table in a field"},
-	"plan":      {"type switch on its own", "call of float32"},
-	"message":   {"method expression in a table", "fallthrough"},
-	"server":    {"table with functions in fields", "call of a function in a field", "deferred function", "call of recover"},
-	"client":    {"type assertion on its own", "constant by iota"},
+	"digest":     {"constant table", "array", "variadic"},
+	"codec":      {"errors.As", "generic function"},
+	"recursion":  {"three indexes", "closure that calls itself"},
+	"verify":     {"loop left by a label", "call of copy"},
+	"frontier":   {"embedded list", "promoted method"},
+	"extract":    {"call of panic", "call of recover"},
+	"tile":       {"map of structs", "range over bits"},
+	"shape":      {"range over an iterator of its own"},
+	"device":     {"call of delete", "deferred function"},
+	"store":      {"deferred function", "call of copy"},
+	"single":     {"method value"},
+	"batch":      {"goto", "map"},
+	"chain":      {"range over neighbours", "map of arrays"},
+	"span":       {"interface in a field", "call through an interface"},
+	"cache":      {"call of float32", "generic order in a field", "generic table in a field"},
+	"plan":       {"type switch on its own", "call of float32"},
+	"message":    {"method expression in a table", "fallthrough"},
+	"server":     {"table with functions in fields", "call of a function in a field", "deferred function", "call of recover"},
+	"client":     {"type assertion on its own", "constant by iota"},
+	"winternitz": {"goroutine", "sync.WaitGroup"},
 }
 
 func TestWays(t *testing.T) {
@@ -150,6 +151,8 @@ func wayOf(n ast.Node) string {
 		}
 	case *ast.DeferStmt:
 		return "deferred function"
+	case *ast.GoStmt:
+		return "goroutine"
 	case *ast.RangeStmt:
 		switch {
 		case isBits(x.X) && x.Value == nil:
