@@ -32,6 +32,7 @@ var ways = map[string][]string{
 	"server":     {"table with functions in fields", "call of a function in a field", "deferred function", "call of recover"},
 	"client":     {"type assertion on its own", "constant by iota"},
 	"winternitz": {"goroutine", "sync.WaitGroup"},
+	"signer":     {"goroutine", "send", "range over a channel", "sync.Once"},
 }
 
 func TestWays(t *testing.T) {
@@ -65,6 +66,9 @@ func TestWays(t *testing.T) {
 	}
 	for layer, n := range rangesOverOwn(t) {
 		found[layer]["range over an iterator of its own"] += n
+	}
+	for layer, n := range rangesOverChannels(t) {
+		found[layer]["range over a channel"] += n
 	}
 	for layer, n := range methodValues(t) {
 		found[layer]["method value"] += n
@@ -153,6 +157,8 @@ func wayOf(n ast.Node) string {
 		return "deferred function"
 	case *ast.GoStmt:
 		return "goroutine"
+	case *ast.SendStmt:
+		return "send"
 	case *ast.RangeStmt:
 		switch {
 		case isBits(x.X) && x.Value == nil:
@@ -387,6 +393,41 @@ func rangesOverOwn(t *testing.T) map[string]int {
 		})
 	}
 	return count
+}
+
+// rangesOverChannels counts, of each layer, the ranges over a channel that a function is handed.
+func rangesOverChannels(t *testing.T) map[string]int {
+	count := map[string]int{}
+	for _, s := range sources(t) {
+		for _, d := range s.file.Decls {
+			f, ok := d.(*ast.FuncDecl)
+			if !ok {
+				continue
+			}
+			channels := channelsOf(f)
+			ast.Inspect(f, func(n ast.Node) bool {
+				if r, ok := n.(*ast.RangeStmt); ok {
+					count[s.layer] += channels[nameOf(r.X)]
+				}
+				return true
+			})
+		}
+	}
+	return count
+}
+
+// channelsOf are the channels that a function is handed, by their names.
+func channelsOf(f *ast.FuncDecl) map[string]int {
+	names := map[string]int{}
+	for _, p := range f.Type.Params.List {
+		if _, ok := p.Type.(*ast.ChanType); !ok {
+			continue
+		}
+		for _, name := range p.Names {
+			names[name.Name]++
+		}
+	}
+	return names
 }
 
 // methodNames are the exported methods of all layers.
