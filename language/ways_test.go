@@ -33,6 +33,7 @@ var ways = map[string][]string{
 	"client":     {"type assertion on its own", "constant by iota"},
 	"winternitz": {"goroutine", "sync.WaitGroup"},
 	"signer":     {"goroutine", "send", "range over a channel", "sync.Once"},
+	"note":       {"range over runes", "error that wraps another", "errors.Is"},
 }
 
 func TestWays(t *testing.T) {
@@ -69,6 +70,9 @@ func TestWays(t *testing.T) {
 	}
 	for layer, n := range rangesOverChannels(t) {
 		found[layer]["range over a channel"] += n
+	}
+	for layer, n := range rangesOverRunes(t) {
+		found[layer]["range over runes"] += n
 	}
 	for layer, n := range methodValues(t) {
 		found[layer]["method value"] += n
@@ -125,8 +129,11 @@ func wayOf(n ast.Node) string {
 			return p.Name + "." + x.Sel.Name
 		}
 	case *ast.FuncDecl:
-		if x.Type.TypeParams != nil {
+		switch {
+		case x.Type.TypeParams != nil:
 			return "generic function"
+		case x.Recv != nil && x.Name.Name == "Unwrap":
+			return "error that wraps another"
 		}
 	case *ast.SliceExpr:
 		if x.Slice3 {
@@ -414,6 +421,41 @@ func rangesOverChannels(t *testing.T) map[string]int {
 		}
 	}
 	return count
+}
+
+// rangesOverRunes counts, of each layer, the ranges over the runes of a text that a function is handed.
+func rangesOverRunes(t *testing.T) map[string]int {
+	count := map[string]int{}
+	for _, s := range sources(t) {
+		for _, d := range s.file.Decls {
+			f, ok := d.(*ast.FuncDecl)
+			if !ok {
+				continue
+			}
+			texts := textsOf(f)
+			ast.Inspect(f, func(n ast.Node) bool {
+				if r, ok := n.(*ast.RangeStmt); ok && r.Value != nil {
+					count[s.layer] += texts[nameOf(r.X)]
+				}
+				return true
+			})
+		}
+	}
+	return count
+}
+
+// textsOf are the texts that a function is handed, by their names.
+func textsOf(f *ast.FuncDecl) map[string]int {
+	names := map[string]int{}
+	for _, p := range f.Type.Params.List {
+		if nameOf(p.Type) != "string" {
+			continue
+		}
+		for _, name := range p.Names {
+			names[name.Name]++
+		}
+	}
+	return names
 }
 
 // channelsOf are the channels that a function is handed, by their names.
