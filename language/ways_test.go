@@ -34,6 +34,7 @@ var ways = map[string][]string{
 	"winternitz": {"goroutine", "sync.WaitGroup"},
 	"signer":     {"goroutine", "send", "range over a channel", "sync.Once"},
 	"note":       {"range over runes", "error that wraps another", "errors.Is"},
+	"witness":    {"mutex in a field", "mutex held"},
 }
 
 func TestWays(t *testing.T) {
@@ -103,6 +104,12 @@ func TestWays(t *testing.T) {
 	for layer, n := range calledFields(t) {
 		found[layer]["call of a function in a field"] += n
 	}
+	for layer, fields := range mutexes(t) {
+		found[layer]["mutex in a field"] += len(fields)
+	}
+	for layer, n := range holders(t) {
+		found[layer]["mutex held"] += n
+	}
 	for layer, words := range ways {
 		for _, w := range words {
 			if found[layer][w] == 0 {
@@ -113,6 +120,64 @@ func TestWays(t *testing.T) {
 	if found["recursion"]["two indexes"] > 0 {
 		t.Error("recursion: a part that is no slice of three indexes")
 	}
+}
+
+// mutexes are, of each layer, the fields that are mutexes, by their structs.
+func mutexes(t *testing.T) map[string]map[string]string {
+	fields := map[string]map[string]string{}
+	for layer, declared := range declaredIn(t) {
+		fields[layer] = map[string]string{}
+		for outer, e := range declared {
+			x, ok := e.(*ast.StructType)
+			if !ok {
+				continue
+			}
+			for _, f := range x.Fields.List {
+				if wayOf(f.Type) == "sync.Mutex" && len(f.Names) == 1 {
+					fields[layer][outer] = f.Names[0].Name
+				}
+			}
+		}
+	}
+	return fields
+}
+
+// holders counts, of each layer, the exported methods of what has a mutex, which all must hold it to their end.
+func holders(t *testing.T) map[string]int {
+	fields, count := mutexes(t), map[string]int{}
+	for _, s := range sources(t) {
+		for _, d := range s.file.Decls {
+			f, ok := d.(*ast.FuncDecl)
+			if !ok || !f.Name.IsExported() || fields[s.layer][receiver(f)] == "" {
+				continue
+			}
+			if !holds(f, fields[s.layer][receiver(f)]) {
+				t.Errorf("%s: %s does not hold the mutex", s.layer, f.Name.Name)
+			}
+			count[s.layer]++
+		}
+	}
+	return count
+}
+
+// holds tells whether a function takes the mutex of a field, and gives it back behind all that it does from there on.
+func holds(f *ast.FuncDecl, field string) bool {
+	of := func(e ast.Expr, method string) bool {
+		c, ok := e.(*ast.CallExpr)
+		if !ok {
+			return false
+		}
+		m, ok := c.Fun.(*ast.SelectorExpr)
+		return ok && m.Sel.Name == method && nameOf(m.X) == field
+	}
+	for i := range len(f.Body.List) - 1 {
+		taken, ok := f.Body.List[i].(*ast.ExprStmt)
+		given, also := f.Body.List[i+1].(*ast.DeferStmt)
+		if ok && also && of(taken.X, "Lock") && of(given.Call, "Unlock") {
+			return true
+		}
+	}
+	return false
 }
 
 // wayOf names the way that a piece of a program is, if it is one.
