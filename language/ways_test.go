@@ -35,6 +35,7 @@ var ways = map[string][]string{
 	"signer":     {"goroutine", "send", "range over a channel", "sync.Once"},
 	"note":       {"range over runes", "error that wraps another", "errors.Is"},
 	"witness":    {"mutex in a field", "mutex held"},
+	"trie":       {"generic tree in a field", "generic node in a field", "generic interface with methods", "type switch on its own generics"},
 }
 
 func TestWays(t *testing.T) {
@@ -91,6 +92,12 @@ func TestWays(t *testing.T) {
 	}
 	for layer, n := range switchesOnOwn(t) {
 		found[layer]["type switch on its own"] += n
+	}
+	for layer, n := range switchesOnGenerics(t) {
+		found[layer]["type switch on its own generics"] += n
+	}
+	for layer, n := range genericInterfaces(t) {
+		found[layer]["generic interface with methods"] += n
 	}
 	for layer, n := range assertionsOnOwn(t) {
 		found[layer]["type assertion on its own"] += n
@@ -360,7 +367,24 @@ func instanceOf(e ast.Expr) string {
 
 // switchesOnOwn counts, of each layer, the type switches that tell apart types which it declares, and no others.
 func switchesOnOwn(t *testing.T) map[string]int {
-	types, count := declaredIn(t), map[string]int{}
+	types := declaredIn(t)
+	return switches(t, func(layer string, e ast.Expr) bool { return types[layer][nameOf(e)] != nil })
+}
+
+// switchesOnGenerics counts those that tell apart what is made of generic types which it declares, or points to such.
+func switchesOnGenerics(t *testing.T) map[string]int {
+	names := generics(t)
+	return switches(t, func(layer string, e ast.Expr) bool {
+		if p, ok := e.(*ast.StarExpr); ok {
+			e = p.X
+		}
+		return names[layer][instanceOf(e)] > 0
+	})
+}
+
+// switches counts, of each layer, the type switches that tell two types or more apart, each of which is own.
+func switches(t *testing.T, isOwn func(layer string, e ast.Expr) bool) map[string]int {
+	count := map[string]int{}
 	for _, s := range sources(t) {
 		ast.Inspect(s.file, func(n ast.Node) bool {
 			x, ok := n.(*ast.TypeSwitchStmt)
@@ -370,7 +394,7 @@ func switchesOnOwn(t *testing.T) map[string]int {
 			own, others := 0, 0
 			for _, c := range x.Body.List {
 				for _, e := range c.(*ast.CaseClause).List {
-					if _, ok := types[s.layer][nameOf(e)]; ok {
+					if isOwn(s.layer, e) {
 						own++
 					} else {
 						others++
@@ -382,6 +406,19 @@ func switchesOnOwn(t *testing.T) map[string]int {
 			}
 			return true
 		})
+	}
+	return count
+}
+
+// genericInterfaces counts, of each layer, the generic types that it declares which are interfaces with methods.
+func genericInterfaces(t *testing.T) map[string]int {
+	types, count := declaredIn(t), map[string]int{}
+	for layer, names := range generics(t) {
+		for name := range names {
+			if x, ok := types[layer][name].(*ast.InterfaceType); ok && slices.ContainsFunc(x.Methods.List, func(f *ast.Field) bool { return len(f.Names) > 0 }) {
+				count[layer]++
+			}
+		}
 	}
 	return count
 }
